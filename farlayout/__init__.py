@@ -1,0 +1,1 @@
+"""What a pretty printer does with documents whose text nobody can print."""

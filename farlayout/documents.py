@@ -1,0 +1,78 @@
+"""Documents: lists of rows that refer to earlier rows."""
+
+from farlayout.errors import InvalidDoc
+from farlayout.wholes import is_integer
+
+MOST_ROWS = 200
+MOST_PARTS = 8
+MOST_NEST = 8
+MOST_TEXT_SIGNS = 20
+MOST_LINE_SIGNS = 3
+ROW_LENGTHS = {"text": 2, "line": 2, "hard": 1, "cat": 2, "nest": 3, "align": 2, "group": 2}
+
+
+class Doc:
+    """A document: its last row with all that is below it."""
+
+    def __init__(self, rows):
+        _check_rows(rows)
+        self._rows = [_copied_row(row) for row in rows]
+
+    def __eq__(self, other):
+        return isinstance(other, Doc) and self._rows == other._rows
+
+    def row_list(self):
+        """Returns a new list of the rows."""
+        return [_copied_row(row) for row in self._rows]
+
+
+def is_row(row, k):
+    """Tells whether a value can be row number k of a document."""
+    # Only a string is looked up as a kind: other values may not be hashable.
+    if not isinstance(row, tuple) or len(row) == 0 or not isinstance(row[0], str):
+        return False
+    kind = row[0]
+    if ROW_LENGTHS.get(kind) != len(row):
+        return False
+    if kind == "text":
+        return _is_signs(row[1], MOST_TEXT_SIGNS)
+    if kind == "line":
+        return _is_signs(row[1], MOST_LINE_SIGNS)
+    if kind == "hard":
+        return True
+    if kind == "cat":
+        return _is_parts(row[1], k)
+    if kind == "nest":
+        return _is_below(row[1], MOST_NEST + 1) and _is_below(row[2], k)
+    return _is_below(row[1], k)
+
+
+def _check_rows(rows):
+    if not isinstance(rows, list) or not 1 <= len(rows) <= MOST_ROWS:
+        raise InvalidDoc(-1)
+    for k, row in enumerate(rows):
+        if not is_row(row, k):
+            raise InvalidDoc(k)
+
+
+def _copied_row(row):
+    # The list of parts is the only thing in a row that a caller could change.
+    if row[0] == "cat":
+        return ("cat", list(row[1]))
+    return row
+
+
+def _is_signs(value, most):
+    if not isinstance(value, str) or len(value) > most:
+        return False
+    return all([" " <= sign <= "~" for sign in value])
+
+
+def _is_parts(value, k):
+    if not isinstance(value, list) or len(value) > MOST_PARTS:
+        return False
+    return all([_is_below(part, k) for part in value])
+
+
+def _is_below(value, end):
+    return is_integer(value) and 0 <= value < end

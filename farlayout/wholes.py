@@ -1,0 +1,6 @@
+"""What counts as an integer."""
+
+
+def is_integer(value):
+    """Tells whether a value is an integer; True and False are none."""
+    return isinstance(value, int) and not isinstance(value, bool)
