@@ -17,6 +17,8 @@ class Doc:
     def __init__(self, rows):
         _check_rows(rows)
         self._rows = [_copied_row(row) for row in rows]
+        # What `facts_of` finds out from the rows; kept here so that it is found out once.
+        self.facts = None
 
     def __eq__(self, other):
         return isinstance(other, Doc) and self._rows == other._rows
@@ -24,6 +26,15 @@ class Doc:
     def row_list(self):
         """Returns a new list of the rows."""
         return [_copied_row(row) for row in self._rows]
+
+
+def parts_of(row):
+    """Returns a new list of the numbers of the rows that are the parts of a row."""
+    if row[0] == "cat":
+        return list(row[1])
+    if row[0] in ("nest", "align", "group"):
+        return [row[-1]]
+    return []
 
 
 def is_row(row, k):

@@ -67,3 +67,16 @@ def no_lists():
 
 def no_tuples():
     return other_values() + [deep_list(), deep_dict()] + [0, -1, "", "hard", [], ["hard"], ["text", "a"]]
+
+
+def no_documents():
+    values = [value for value in other_values() if not isinstance(value, Doc)]
+    return values + deep_values() + [Doc, 0, 1, "", "text a", [], [("text", "a")], (), (("text", "a"),)]
+
+
+def no_paths():
+    """Values that are no path in any document."""
+    values = no_tuples() + [deep_tuple(), deep_list(), list_in_itself(), [], [0], [0, 0]]
+    for wrong in other_values() + deep_values() + ["0", (0,), [0], -1, 8, 10 ** 40]:
+        values.append((wrong,))
+    return values

@@ -1,0 +1,24 @@
+"""The checks of arguments that many functions have."""
+
+from farlayout.documents import Doc
+from farlayout.errors import InvalidBound
+from farlayout.wholes import is_integer
+
+MOST_WIDTH = 40
+
+
+def check_doc(doc):
+    """Raises InvalidBound if a value is no document."""
+    if not isinstance(doc, Doc):
+        raise InvalidBound("doc")
+
+
+def check_width(width):
+    """Raises InvalidBound if a value is no width."""
+    check_number(width, 1, MOST_WIDTH, "width")
+
+
+def check_number(value, least, most, argument):
+    """Raises InvalidBound with the name of the argument if a value is no integer from `least` to `most`."""
+    if not is_integer(value) or not least <= value <= most:
+        raise InvalidBound(argument)
