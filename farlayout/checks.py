@@ -18,6 +18,11 @@ def check_width(width):
     check_number(width, 1, MOST_WIDTH, "width")
 
 
+def check_row_number(facts, at):
+    """Raises InvalidBound if a value is not the number of a row."""
+    check_number(at, 0, len(facts.rows) - 1, "at")
+
+
 def check_number(value, least, most, argument):
     """Raises InvalidBound with the name of the argument if a value is no integer from `least` to `most`."""
     if not is_integer(value) or not least <= value <= most:

@@ -1,7 +1,7 @@
 """What the rows of a document measure by themselves, whatever the width."""
 
-from farlayout.checks import check_number
-from farlayout.counts import count_all
+from farlayout.checks import check_row_number
+from farlayout.counts import all_rows, count_all, one_row, rows_of_kind
 from farlayout.facts import facts_of
 from farlayout.paths import rows_on_path
 
@@ -9,7 +9,7 @@ from farlayout.paths import rows_on_path
 def node_total(doc):
     """Returns the number of nodes of the tree."""
     facts = facts_of(doc)
-    return count_all(facts, [True] * len(facts.rows))
+    return count_all(facts, all_rows(facts))
 
 
 def depth(doc):
@@ -23,7 +23,7 @@ def depth(doc):
 def group_total(doc):
     """Returns how many nodes are groups."""
     facts = facts_of(doc)
-    return count_all(facts, [row[0] == "group" for row in facts.rows])
+    return count_all(facts, rows_of_kind(facts, "group"))
 
 
 def row_at(doc, path):
@@ -35,7 +35,7 @@ def row_copies(doc, at):
     """Returns how many nodes are at a row."""
     facts = facts_of(doc)
     check_row_number(facts, at)
-    return count_all(facts, [k == at for k in range(len(facts.rows))])
+    return count_all(facts, one_row(facts, at))
 
 
 def flat_width(doc, at):
@@ -50,8 +50,3 @@ def lead(doc, at):
     facts = facts_of(doc)
     check_row_number(facts, at)
     return facts.leads[at]
-
-
-def check_row_number(facts, at):
-    """Raises InvalidBound if a value is not the number of a row."""
-    check_number(at, 0, len(facts.rows) - 1, "at")

@@ -2,6 +2,8 @@
 
 from farlayout.laid import START
 
+MOST_PIECE = 1000
+
 
 def signs_between(laid, first, end):
     """Returns the signs of the text from number `first` to the one ahead of number `end`."""

@@ -103,8 +103,9 @@ class NoTextTest(unittest.TestCase):
         for line, sign in [
             ("x", 0), (" ", 0), (" hard", 0), ("Text a", 0), ("t", 1), ("te", 2), ("tex a", 3), ("texts", 4),
             ("line", 4), ("lin e", 3), ("h", 1), ("har", 3), ("harm", 3), ("hard ", 4), ("hard 0", 4), ("hardy", 4),
-            ("ca", 2), ("c", 1), ("cast 0", 2), ("cats 0", 3), ("nes", 3), ("nets", 2), ("al", 2), ("align", 5), ("aligned 0", 5),
-            ("g", 1), ("grape", 2), ("group", 5), ("groups 0", 5), ("nest", 4), ("0", 0), ("\t", 0), ("\x7f", 0),
+            ("ca", 2), ("c", 1), ("cast 0", 2), ("cats 0", 3), ("nes", 3), ("nets", 2), ("al", 2), ("align", 5),
+            ("aligned 0", 5), ("g", 1), ("grape", 2), ("group", 5), ("groups 0", 5), ("nest", 4),
+            ("0", 0), ("\t", 0), ("\x7f", 0),
         ]:
             self.assert_line_refused(line, sign)
 

@@ -7,7 +7,7 @@ from farlayout.documents import Doc
 from farlayout.errors import LimitExceeded
 from farlayout.layouts import last_column, line_total, longest, sign_total, written
 from plain import Plain, random_rows
-from samples import ALIGNED, OLD, SMALL, TWO, doubled, old, tall, two
+from samples import ALIGNED, OLD, SMALL, TWO, doubled, old, tall, tangled, two
 
 WIDTHS = range(1, 41)
 FUNCTIONS = [sign_total, line_total, longest, last_column, written]
@@ -244,12 +244,7 @@ class HugeTest(unittest.TestCase):
         self.assertEqual(totals(Doc(rows), 40), (5 + far, 2, far + 2, far + 2))
 
     def test_each_row_in_many_situations(self):
-        rows = [("text", "a"), ("text", "bc"), ("text", "defgh"), ("line", " "), ("group", 3), ("cat", [0, 4, 1, 4, 2])]
-        while len(rows) < 200:
-            k = len(rows) - 1
-            level = [("cat", [k, 4, 1, 4, k, 2]), ("nest", 1, k), ("cat", [k - 1, 3, k]), ("align", k), ("group", k)]
-            rows.append(level[k % 5])
-        doc = Doc(rows)
+        doc = tangled()
         for width in WIDTHS:
             signs, lines, most, last = totals(doc, width)
             self.assertTrue(lines > 2 ** 70 and signs > lines and most >= last)
