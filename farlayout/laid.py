@@ -37,11 +37,24 @@ class Laid:
         """Returns the place behind the last sign."""
         return self.behind(self.whole(), START)
 
-    def outcome_at(self, stand, column):
-        """Returns the outcome of a part in no flat group that begins at a column."""
+    def situation_at(self, stand, column):
+        """Returns the situation of a part in no flat group that begins at a column."""
         first = self.width - column
         second = self.width - stand.indentation
-        return outcome_in(self.facts, situation_of(self.facts, stand.row, first, second, stand.ahead))
+        return situation_of(self.facts, stand.row, first, second, stand.ahead)
+
+    def outcome_at(self, stand, column):
+        """Returns the outcome of such a part."""
+        return outcome_in(self.facts, self.situation_at(stand, column))
+
+    def likeness(self, stand, column):
+        """Returns a key; parts with the same key have the same signs, wherever they stand."""
+        if stand.is_flat:
+            return (stand.row,)
+        # In the same situation, only the blanks of lines can still tell a column or an indentation from another one.
+        slopes = self.outcome_at(stand, column).slopes
+        told = (column if slopes[0] > 0 else 0, stand.indentation if slopes[1] > 0 else 0)
+        return (self.situation_at(stand, column), told)
 
     def behind(self, stand, place):
         """Returns the place behind a part that begins at a place."""

@@ -280,6 +280,11 @@ class LimitTest(unittest.TestCase):
         self.assertEqual(sign_total(doc, 14), 24 * 512)
         self.assert_limit(doc, 14)
 
+    def test_each_sign_below_many_single_parts(self):
+        singles = [[("nest", 0, k), ("align", k), ("group", k), ("cat", [k])][k % 4] for k in range(180)]
+        self.assertEqual(written(Doc(doubled([("text", "a")] + singles, 13)), 5), "a" * 8192)
+        self.assertEqual(written(Doc(doubled([("hard",)] + singles, 13)), 5), "\n" * 8192)
+
     def test_huge(self):
         for width in [1, 40]:
             self.assert_limit(tall(), width)

@@ -81,6 +81,16 @@ class HugeTest(unittest.TestCase):
         self.assertEqual(window(doc, 4, 1, 1000), "b\nab")
         self.assertEqual([sign_at(doc, 4, k) for k in range(5)], list("ab\nab"))
 
+    def test_each_sign_below_many_single_parts(self):
+        singles = [[("nest", 1, k), ("group", k), ("cat", [k])][k % 3] for k in range(2, 120)]
+        rows = [("line", " "), ("text", "a"), ("cat", [1, 0, 1])] + singles
+        doc = Doc(doubled(rows, 70))
+        # 39 of the rows are nests.
+        unit = "a\n" + " " * 39 + "a"
+        signs = len(unit) * 2 ** 70
+        for k in far_numbers(signs):
+            self.assertEqual(window(doc, 2, k, 1000), (unit * 30)[k % len(unit):][:min(1000, signs - k)])
+
     def test_nothing_but_empty_parts(self):
         doc = Doc(doubled([("cat", [])], 199))
         self.assertEqual([window(doc, 5, 0, many) for many in [0, 1, 1000]], ["", "", ""])
