@@ -1,61 +1,53 @@
-"""Counts of the nodes of a tree that are at chosen rows; a list with a flag for each row tells which rows these are.
+"""Counts of the nodes of a tree that are at chosen rows: at those of a kind, at one with a number, or at all rows.
 
 The nodes are in the order in which they begin, a node before those below it.
 """
 
 from farlayout.paths import rows_on_path
 
-
-def all_rows(facts):
-    """Returns the flags for all rows."""
-    return [True] * len(facts.rows)
+ALL = "all"
 
 
-def one_row(facts, at):
-    """Returns the flags for a single row."""
-    return [number == at for number in range(len(facts.rows))]
-
-
-def rows_of_kind(facts, kind):
-    """Returns the flags for all rows of a kind."""
-    return [row[0] == kind for row in facts.rows]
-
-
-def count_all(facts, flags):
+def count_all(facts, chosen):
     """Returns how many nodes are at chosen rows."""
-    return _counts_below(facts, flags)[-1]
+    return _counts_below(facts, chosen)[-1]
 
 
-def count_ahead(facts, flags, path):
+def count_ahead(facts, chosen, path):
     """Returns how many nodes at chosen rows are ahead of the one with a path."""
-    numbers = rows_on_path(facts, path)
-    counts = _counts_below(facts, flags)
+    rows = rows_on_path(facts.last, path)
+    counts = _counts_below(facts, chosen)
     total = 0
-    for number, index in zip(numbers, path):
-        total += int(flags[number]) + sum([counts[part] for part in facts.parts[number][:index]])
+    for row, index in zip(rows, path):
+        total += int(_is_chosen(row, chosen)) + sum([counts[part.number] for part in row.parts[:index]])
     return total
 
 
-def path_of_number(facts, flags, k):
+def path_of_number(facts, chosen, k):
     """Returns the path of number k of the nodes at chosen rows."""
-    counts = _counts_below(facts, flags)
-    number = len(facts.rows) - 1
+    counts = _counts_below(facts, chosen)
+    row = facts.last
     path = []
-    while k > 0 or not flags[number]:
-        k -= int(flags[number])
-        parts = facts.parts[number]
-        index = 0
-        while k >= counts[parts[index]]:
-            k -= counts[parts[index]]
-            index += 1
+    while k > 0 or not _is_chosen(row, chosen):
+        k -= int(_is_chosen(row, chosen))
+        for index, part in enumerate(row.parts):
+            if k < counts[part.number]:
+                break
+            k -= counts[part.number]
         path.append(index)
-        number = parts[index]
+        row = part
     return tuple(path)
 
 
-def _counts_below(facts, flags):
+def _is_chosen(row, chosen):
+    return chosen == ALL or chosen == row.kind or chosen == row.number
+
+
+def _counts_below(facts, chosen):
     """Returns for each row how many nodes of its own tree are at chosen rows, itself included."""
-    counts = []
-    for flag, parts in zip(flags, facts.parts):
-        counts.append(int(flag) + sum([counts[part] for part in parts]))
-    return counts
+    if chosen not in facts.counts:
+        counts = []
+        for row in facts.rows:
+            counts.append(int(_is_chosen(row, chosen)) + sum([counts[part.number] for part in row.parts]))
+        facts.counts[chosen] = counts
+    return facts.counts[chosen]

@@ -15,10 +15,10 @@ class Doc:
     """A document: its last row with all that is below it."""
 
     def __init__(self, rows):
-        _check_rows(rows)
-        self._rows = [_copied_row(row) for row in rows]
-        # What `facts_of` finds out from the rows; kept here so that it is found out once.
+        self._rows = _checked_rows(rows)
+        # What `facts_of` and `group_facts_of` find out from the rows; kept here so that it is found out once.
         self.facts = None
+        self.group_facts = None
 
     def __eq__(self, other):
         return isinstance(other, Doc) and self._rows == other._rows
@@ -26,6 +26,11 @@ class Doc:
     def row_list(self):
         """Returns a new list of the rows."""
         return [_copied_row(row) for row in self._rows]
+
+
+def rows_in(doc):
+    """Returns the very list of rows that a document keeps, which nobody may change."""
+    return doc._rows
 
 
 def parts_of(row):
@@ -37,6 +42,15 @@ def parts_of(row):
     return []
 
 
+def with_parts(row, parts):
+    """Returns a row that has other parts instead of its own ones, as many of them."""
+    if row[0] == "cat":
+        return ("cat", list(parts))
+    if row[0] in ("nest", "align", "group"):
+        return row[:-1] + (parts[0],)
+    return row
+
+
 def is_row(row, k):
     """Tells whether a value can be row number k of a document."""
     # Only a string is looked up as a kind: other values may not be hashable.
@@ -45,25 +59,28 @@ def is_row(row, k):
     kind = row[0]
     if ROW_LENGTHS.get(kind) != len(row):
         return False
+    if kind == "cat":
+        return _is_parts(row[1], k)
     if kind == "text":
         return _is_signs(row[1], MOST_TEXT_SIGNS)
     if kind == "line":
         return _is_signs(row[1], MOST_LINE_SIGNS)
     if kind == "hard":
         return True
-    if kind == "cat":
-        return _is_parts(row[1], k)
     if kind == "nest":
         return _is_below(row[1], MOST_NEST + 1) and _is_below(row[2], k)
     return _is_below(row[1], k)
 
 
-def _check_rows(rows):
+def _checked_rows(rows):
     if not isinstance(rows, list) or not 1 <= len(rows) <= MOST_ROWS:
         raise InvalidDoc(-1)
+    checked = []
     for k, row in enumerate(rows):
         if not is_row(row, k):
             raise InvalidDoc(k)
+        checked.append(_copied_row(row))
+    return checked
 
 
 def _copied_row(row):
@@ -74,15 +91,18 @@ def _copied_row(row):
 
 
 def _is_signs(value, most):
-    if not isinstance(value, str) or len(value) > most:
-        return False
-    return all([" " <= sign <= "~" for sign in value])
+    # Of the ASCII characters, just those from the blank to ~ are printable.
+    return isinstance(value, str) and len(value) <= most and value.isascii() and value.isprintable()
 
 
 def _is_parts(value, k):
     if not isinstance(value, list) or len(value) > MOST_PARTS:
         return False
-    return all([_is_below(part, k) for part in value])
+    for part in value:
+        # The same as `_is_below`; but documents have many parts, and a call for each of them takes its time.
+        if not isinstance(part, int) or isinstance(part, bool) or not 0 <= part < k:
+            return False
+    return True
 
 
 def _is_below(value, end):

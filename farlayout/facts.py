@@ -1,109 +1,173 @@
 """What the rows of a document are by themselves, whatever the width and the place at which they stand."""
 
-from farlayout.checks import check_doc
-from farlayout.documents import parts_of
+from farlayout.checks import MOST_WIDTH, check_doc
+from farlayout.documents import rows_in
+
+# How a row may break: it has no lines, it has lines, it has a hard line.
+BARE = 0
+LOOSE = 1
+HARD = 2
+LEAF_BREAKS = {"line": LOOSE, "hard": HARD}
+# The situation of all lines that are not flat, and what they come to there: `totals.py` tells what these are.
+LONE = (-1, -1, 0)
+BROKEN_LINE = (1, 1, 0, 1, 0)
+
+
+class Row:
+    """A row of a document, and what it is by itself.
+
+    - `number`, `kind`, `parts`: its number, its kind, and the rows that are its parts.
+    - `string`: that of a text or a line; `more`: what a nest adds to the indentation.
+    - `wide`: its flat width, to which a hard line adds nothing; `lead`: the signs ahead of its first line.
+    - `breaks`: whether it is BARE, LOOSE or HARD.
+    - `groups`: how many groups its tree has; counted only if it is made for questions about groups.
+    - `is_still`: whether it is laid in one way only, as if it were flat.
+
+    A group matters if it can be laid in two ways that are told apart. A BASE is what a column in a row is counted
+    from: 0 is the column at which the row begins, 1 its indentation. Bases are added as 1 for 0 and 2 for 1.
+
+    - `inner`: the base of the indentation of its parts.
+    - `matters`: the bases of the columns at which a group that matters may stand.
+    - `ends`: the bases from which the column behind the row may be counted.
+    - `has_last`: whether a group that matters has no line behind it in the row.
+    - `steps`: for each part, itself, whether it is still, and what is behind it in this row: the number of signs
+      up to the first line, and whether there is one.
+
+    What is found out about it later is kept in dicts from its situations: `known`, `opened`.
+    """
+
+    def __init__(self, number, row, parts, counts_groups):
+        # Programs make many documents, so what most rows have is found here, with as few calls as possible.
+        wide = 0
+        breaks = BARE
+        for part in parts:
+            wide += part.wide
+            if part.breaks > breaks:
+                breaks = part.breaks
+        self.number = number
+        self.kind = row[0]
+        self.parts = parts
+        self.string = ""
+        self.more = 0
+        self.wide = wide
+        self.lead = wide
+        self.breaks = breaks
+        self.groups = 0
+        self.is_still = breaks == BARE
+        self.inner = 1
+        self.matters = 0
+        self.ends = 1
+        self.has_last = False
+        self.steps = []
+        self.known = {}
+        self.opened = {}
+        if self.kind != "cat":
+            self._add_kind(row)
+        if counts_groups:
+            self._add_groups()
+        if not self.is_still and parts:
+            self._add_steps()
+            self._add_bases()
+
+    def _add_kind(self, row):
+        if self.kind == "align":
+            self.inner = 0
+        elif self.kind == "nest":
+            self.more = row[1]
+        elif self.kind == "text":
+            self.string = row[1]
+            self.wide = self.lead = len(row[1])
+        elif self.kind in LEAF_BREAKS:
+            self.string = row[1] if self.kind == "line" else ""
+            self.wide = len(self.string)
+            self.breaks = LEAF_BREAKS[self.kind]
+            self.is_still = False
+            self.ends = 2
+            self.known[LONE] = BROKEN_LINE
+
+    def _add_groups(self):
+        self.groups = int(self.kind == "group") + sum([part.groups for part in self.parts])
+        if self.groups > 0:
+            self.is_still = False
+
+    def _add_steps(self):
+        signs = 0
+        is_ended = False
+        steps = []
+        for part in self.parts[::-1]:
+            steps.append((part, part.is_still, signs, is_ended))
+            if part.has_last and not is_ended:
+                self.has_last = True
+            if part.breaks:
+                signs = part.lead
+                is_ended = True
+            else:
+                signs += part.lead
+        steps.reverse()
+        self.lead = signs
+        self.steps = steps
+
+    def _add_bases(self):
+        matters = 0
+        at = 1
+        inner = 1 + self.inner
+        for part in self.parts:
+            if part.matters:
+                matters |= (at if part.matters & 1 else 0) | (inner if part.matters & 2 else 0)
+            if part.ends != 1:
+                at = inner if part.ends == 2 else at | inner
+        if self.kind == "group" and self.breaks != HARD and self.wide <= MOST_WIDTH:
+            matters |= 1
+            at |= 1
+            self.has_last = True
+        self.matters = matters
+        self.ends = at
 
 
 class Facts:
-    """Lists with an entry for each row.
+    """The rows of a document, and what is found out about it later.
 
-    - `parts`: the numbers of its parts.
-    - `flats`: its flat width, or None.
-    - `leads`: the signs ahead of its first line, and whether it has one.
-    - `behinds`: for each of its parts, the same of the parts behind it.
-    - `are_bare`: whether it has no lines.
-
-    A group matters if its lines can be laid in two ways. A BASE is what a column in a row is counted from: 0 is the
-    column at which the row begins, 1 its indentation.
-
-    - `matters`: for each base, whether a group that matters may stand at a column counted from it.
-    - `ends`: for each base, whether the column behind the row may be counted from it.
-    - `has_last`: whether a group that matters has no line behind it in the row.
+    - `laids`: the document laid out, for each width that was asked.
+    - `counts`: for what was counted, how many of it each row has below it.
+    - `mosts`, `flats`: what is known of rows in situations.
+    - `flips`, `alike`: what is known of pairs of them.
     """
 
     def __init__(self, rows):
         self.rows = rows
-        self.parts = [parts_of(row) for row in rows]
-        self.flats = []
-        self.leads = []
-        self.behinds = []
-        self.are_bare = []
-        self.matters = []
-        self.ends = []
-        self.has_last = []
-        # What a row comes to in a situation, for each situation that was met.
-        self.outcomes = {}
-        for row, parts in zip(rows, self.parts):
-            self._add_sizes(row, parts)
-            self._add_bases(row, parts)
-
-    def _add_sizes(self, row, parts):
-        is_line = row[0] in ("line", "hard")
-        leads = [self.leads[part] for part in parts]
-        self.behinds.append([_joined_lead(leads[index + 1:]) for index in range(len(parts))])
-        self.are_bare.append(not is_line and all([self.are_bare[part] for part in parts]))
-        if row[0] == "text":
-            self.leads.append((len(row[1]), False))
-        elif is_line:
-            self.leads.append((0, True))
-        else:
-            self.leads.append(_joined_lead(leads))
-        if row[0] == "hard":
-            self.flats.append(None)
-        elif row[0] in ("text", "line"):
-            self.flats.append(len(row[1]))
-        else:
-            self.flats.append(_sum_or_none([self.flats[part] for part in parts]))
-
-    def _add_bases(self, row, parts):
-        k = len(self.ends)
-        is_line = row[0] in ("line", "hard")
-        does_matter = row[0] == "group" and self.flats[k] is not None and not self.are_bare[k]
-        matters = [does_matter, False]
-        at = [not is_line, is_line]
-        indentation = indentation_base(row)
-        for part in parts:
-            behind = [False, False]
-            for base in (0, 1):
-                matters[base] = matters[base] or at[base] and self.matters[part][0]
-                behind[base] = at[base] and self.ends[part][0]
-            matters[indentation] = matters[indentation] or self.matters[part][1]
-            behind[indentation] = behind[indentation] or self.ends[part][1]
-            at = behind
-        self.matters.append(matters)
-        self.ends.append([at[0] or does_matter, at[1]])
-        lasts = [self.has_last[part] and not behind[1] for part, behind in zip(parts, self.behinds[k])]
-        self.has_last.append(does_matter or any(lasts))
+        self.last = rows[-1]
+        self.laids = {}
+        self.counts = {}
+        self.mosts = {}
+        self.flats = {}
+        self.flips = {}
+        self.alike = {}
 
 
 def facts_of(doc):
     """Returns the facts of a document; raises InvalidBound if it is none."""
     check_doc(doc)
     if doc.facts is None:
-        doc.facts = Facts(doc.row_list())
+        doc.facts = Facts(_made_rows(rows_in(doc), False))
     return doc.facts
 
 
-def indentation_base(row):
-    """Returns the base from which the indentation of the parts of a row is counted."""
-    if row[0] == "align":
-        return 0
-    return 1
+def group_facts_of(doc):
+    """Returns the same for questions about the groups, for which also groups without lines matter."""
+    check_doc(doc)
+    if doc.group_facts is None:
+        doc.group_facts = Facts(_made_rows(rows_in(doc), True))
+    return doc.group_facts
 
 
-def _joined_lead(leads):
-    signs = 0
-    for many, is_ended in leads:
-        signs += many
-        if is_ended:
-            return (signs, True)
-    return (signs, False)
-
-
-def _sum_or_none(numbers):
-    total = 0
-    for number in numbers:
-        if number is None:
-            return None
-        total += number
-    return total
+def _made_rows(rows, counts_groups):
+    made = []
+    for number, row in enumerate(rows):
+        if row[0] == "cat":
+            parts = [made[part] for part in row[1]]
+        elif row[0] in ("nest", "align", "group"):
+            parts = [made[row[-1]]]
+        else:
+            parts = []
+        made.append(Row(number, row, parts, counts_groups))
+    return made

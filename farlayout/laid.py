@@ -1,93 +1,84 @@
-"""A document laid out for a width: where its parts begin and end, without writing out what is between.
+"""Rows that are laid out: where they and their parts begin and end, without writing out what is between.
 
 A place is a tuple (line, column, number of signs ahead of it).
 """
 
 from farlayout.checks import check_width
-from farlayout.facts import facts_of
-from farlayout.outcomes import fits, forget_many, outcome_in, situation_of
-
-START = (0, 0, 0)
-
-
-class Stand:
-    """How a part stands in the tree: all that decides how it is laid, beside the place at which it begins."""
-
-    def __init__(self, row, indentation, ahead, is_flat):
-        self.row = row
-        self.indentation = indentation
-        self.ahead = ahead
-        self.is_flat = is_flat
+from farlayout.facts import facts_of, group_facts_of
+from farlayout.totals import forget_many, situation_at, total_in
 
 
 class Laid:
-    """A document and a width."""
+    """A row in no flat group that begins at a column, with an indentation and some signs ahead."""
 
-    def __init__(self, doc, width):
-        self.facts = facts_of(doc)
-        check_width(width)
-        self.width = width
-        forget_many(self.facts)
+    def __init__(self, row, width, column, indentation, ahead):
+        self.row = row
+        self.column = column
+        self.indentation = indentation
+        self.situation = situation_at(row, width - column, width - indentation, ahead)
 
-    def whole(self):
-        """Returns how the whole document stands."""
-        return Stand(len(self.facts.rows) - 1, 0, 0, False)
+    def start(self):
+        """Returns the place at which it begins."""
+        return (0, self.column, 0)
 
     def end(self):
-        """Returns the place behind the last sign."""
-        return self.behind(self.whole(), START)
+        """Returns the place behind it."""
+        return behind(self.row, self.situation, self.start(), self.indentation)
 
-    def situation_at(self, stand, column):
-        """Returns the situation of a part in no flat group that begins at a column."""
-        first = self.width - column
-        second = self.width - stand.indentation
-        return situation_of(self.facts, stand.row, first, second, stand.ahead)
 
-    def outcome_at(self, stand, column):
-        """Returns the outcome of such a part."""
-        return outcome_in(self.facts, self.situation_at(stand, column))
+def laid_of(doc, width):
+    """Returns a document laid out for a width; raises InvalidBound if one of both is none."""
+    facts = facts_of(doc)
+    check_width(width)
+    return laid_in(facts, width)
 
-    def likeness(self, stand, column):
-        """Returns a key; parts with the same key have the same signs, wherever they stand."""
-        if stand.is_flat:
-            return (stand.row,)
-        # In the same situation, only the blanks of lines can still tell a column or an indentation from another one.
-        slopes = self.outcome_at(stand, column).slopes
-        told = (column if slopes[0] > 0 else 0, stand.indentation if slopes[1] > 0 else 0)
-        return (self.situation_at(stand, column), told)
 
-    def behind(self, stand, place):
-        """Returns the place behind a part that begins at a place."""
-        line, column, signs = place
-        if stand.is_flat:
-            many = self.facts.flats[stand.row]
-            return (line, column + many, signs + many)
-        outcome = self.outcome_at(stand, column)
-        bases = (column, stand.indentation)
-        many = outcome.signs + outcome.slopes[0] * column + outcome.slopes[1] * stand.indentation
-        return (line + outcome.feeds, bases[outcome.base] + outcome.offset, signs + many)
+def group_laid_of(doc, width):
+    """Returns the same for questions about the groups."""
+    facts = group_facts_of(doc)
+    check_width(width)
+    return laid_in(facts, width)
 
-    def inner(self, stand, place):
-        """Returns how the parts of a part that begins at a place stand."""
-        facts = self.facts
-        row = facts.rows[stand.row]
-        column = place[1]
-        indentation = stand.indentation
-        is_flat = stand.is_flat
-        if row[0] == "nest":
-            indentation += row[1]
-        elif row[0] == "align":
-            indentation = column
-        elif row[0] == "group" and fits(facts, stand.row, self.width - column, stand.ahead):
-            is_flat = True
-        stands = []
-        for part, (signs, is_ended) in zip(facts.parts[stand.row], facts.behinds[stand.row]):
-            if not is_ended:
-                signs = signs + stand.ahead
-            stands.append(Stand(part, indentation, signs, is_flat))
-        return stands
 
-    def is_broken(self, stand):
-        """Tells whether a part is a hard line or a line that is broken."""
-        kind = self.facts.rows[stand.row][0]
-        return kind == "hard" or kind == "line" and not stand.is_flat
+def laid_in(facts, width):
+    """Returns the document that has these facts, laid out for a width."""
+    if width not in facts.laids:
+        facts.laids[width] = laid_row(facts, facts.last, width)
+    return facts.laids[width]
+
+
+def laid_row(facts, row, width):
+    """Returns a row laid out as the last one of a document."""
+    forget_many(facts)
+    return Laid(row, width, 0, 0, 0)
+
+
+def behind(row, situation, place, indentation):
+    """Returns the place behind a row that begins at a place."""
+    line, column, signs = place
+    many, feeds, turned, base, offset = total_in(row, situation)
+    if feeds:
+        many += turned * column + (feeds - turned) * indentation
+    return (line + feeds, (indentation if base else column) + offset, signs + many)
+
+
+def entered(row, step, place, indentation):
+    """Returns the place at which a part begins, and its indentation, for a row that begins at a place."""
+    line, column, signs = place
+    many, feeds, turned, base, offset = step[:5]
+    if feeds:
+        many += turned * column + (feeds - turned) * indentation
+    begin = (line + feeds, (indentation if base else column) + offset, signs + many)
+    return begin, inner_indentation(row, column, indentation)
+
+
+def inner_indentation(row, column, indentation):
+    """Returns the indentation of the parts of a row that begins at a column."""
+    if row.kind == "align":
+        return column
+    return indentation + row.more
+
+
+def is_broken(row, situation):
+    """Tells whether a row without parts is a line that is broken, or a hard line."""
+    return situation is not None and not row.parts

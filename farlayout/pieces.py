@@ -1,72 +1,100 @@
-"""Pieces of the text of a document that is laid out."""
+"""Pieces of the text of a row that is laid out."""
 
-from farlayout.laid import START
+from farlayout.descents import part_over
+from farlayout.errors import LimitExceeded
+from farlayout.laid import behind, entered, is_broken
+from farlayout.steps import steps_in
+from farlayout.totals import total_in
 
 MOST_PIECE = 1000
+MOST_WRITTEN = 10000
 
 
-class Reading:
-    """The signs from number `first` to the one ahead of number `until`, as far as they have been read."""
+class Texts:
+    """The texts of whole parts; for what is alike is put together once."""
 
-    def __init__(self, laid, first, until):
-        self.laid = laid
-        self.first = first
-        self.until = until
-        self.place = START
-        self.pieces = []
-        # The signs of parts that were read as a whole; for what is alike is read once.
+    def __init__(self):
         self.known = {}
-        # What is still to be read, the next one at the end: parts, and tuples that note where a whole part ends.
-        self.waiting = [laid.whole()]
 
-    def read(self):
-        """Reads all the signs and returns them."""
-        while self.waiting and self.place[2] < self.until:
-            self._read_part(self.waiting.pop())
-            while self.waiting and isinstance(self.waiting[-1], tuple):
-                self._end_whole(self.waiting.pop())
-        return "".join(self.pieces)
+    def text_of(self, row, situation, column, indentation):
+        """Returns the text of a part."""
+        likeness = (row.number, told(row, situation, column, indentation))
+        if likeness not in self.known:
+            if row.parts:
+                self.known[likeness] = self._joined(row, situation, column, indentation)
+            else:
+                self.known[likeness] = leaf_text(row, situation, indentation)
+        return self.known[likeness]
 
-    def _read_part(self, stand):
-        place = self.place
-        behind = self.laid.behind(stand, place)
-        if behind[2] <= max(self.first, place[2]):
-            self.place = behind
-        elif not self.laid.facts.parts[stand.row]:
-            begin = max(self.first - place[2], 0)
-            self.pieces.append(_signs_of_leaf(self.laid, stand, begin, min(behind[2], self.until) - place[2]))
-            self.place = behind
-        elif place[2] < self.first or behind[2] > self.until:
-            self.waiting.extend(self.laid.inner(stand, place)[::-1])
-        else:
-            self._read_whole(stand, behind)
+    def _joined(self, row, situation, column, indentation):
+        if total_in(row, situation)[0] == 0:
+            return ""
+        texts = []
+        for step in steps_in(row, situation)[::-1]:
+            place, inner = entered(row, step, (0, column, 0), indentation)
+            texts.append(self.text_of(step[5], step[6], place[1], inner))
+        return "".join(texts)
 
-    def _read_whole(self, stand, behind):
-        likeness = self.laid.likeness(stand, self.place[1])
-        if likeness in self.known:
-            self.pieces.append(self.known[likeness])
-            self.place = behind
-        else:
-            self.waiting.append((likeness, len(self.pieces)))
-            self.waiting.extend(self.laid.inner(stand, self.place)[::-1])
 
-    def _end_whole(self, note):
-        likeness, begin = note
-        signs = "".join(self.pieces[begin:])
-        self.known[likeness] = signs
-        # One piece instead of many, so that the parts around this one have few to join.
-        del self.pieces[begin:]
-        self.pieces.append(signs)
+def told(row, situation, column, indentation):
+    """Returns a key; where a row has the same key, it has the same signs."""
+    _, feeds, turned, _, _ = total_in(row, situation)
+    # In the same situation, only the blanks of lines can still tell a column or an indentation from another one.
+    return (situation, column if turned else 0, indentation if feeds > turned else 0)
+
+
+def leaf_text(row, situation, indentation):
+    """Returns the text of a row without parts."""
+    if is_broken(row, situation):
+        return "\n" + " " * indentation
+    return row.string
+
+
+def written_out(laid):
+    """Returns the whole text; raises LimitExceeded if it has more than 10000 signs."""
+    signs = laid.end()[2]
+    if signs > MOST_WRITTEN:
+        raise LimitExceeded(MOST_WRITTEN)
+    return signs_between(laid, 0, signs)
 
 
 def signs_between(laid, first, end):
     """Returns the signs of the text from number `first` to the one ahead of number `end`."""
-    return Reading(laid, first, end).read()
+    if first == end:
+        return ""
+    texts = Texts()
+    pieces = []
+    found = part_over(laid, first, end)
+    waiting = [(found.row, found.situation, found.place, found.indentation)]
+    while waiting:
+        row, situation, place, indentation = waiting.pop()
+        begin = place[2]
+        stop = behind(row, situation, place, indentation)[2]
+        if first <= begin and stop <= end:
+            pieces.append(texts.text_of(row, situation, place[1], indentation))
+        elif row.parts:
+            waiting.extend(_steps_between(row, situation, place, indentation, first, end))
+        else:
+            pieces.append(_piece_of_leaf(row, situation, max(first - begin, 0), min(end, stop) - begin))
+    return "".join(pieces)
 
 
-def _signs_of_leaf(laid, stand, first, end):
-    if not laid.is_broken(stand):
-        return laid.facts.rows[stand.row][1][first:end]
+def _steps_between(row, situation, place, indentation, first, end):
+    """Returns the parts in which these signs are, the last one first."""
+    found = []
+    for step in steps_in(row, situation):
+        begin, inner = entered(row, step, place, indentation)
+        if begin[2] < end:
+            found.append((step[5], step[6], begin, inner))
+        if begin[2] <= first:
+            break
+    return found
+
+
+def _piece_of_leaf(row, situation, first, end):
+    # The indentation can be too great for its blanks to be written out.
+    if not is_broken(row, situation):
+        return row.string[first:end]
     if first > 0:
         return " " * (end - first)
     return "\n" + " " * (end - 1)

@@ -1,26 +1,23 @@
 """Where the parts of a document stand in its text."""
 
 from farlayout.checks import check_number
-from farlayout.descents import SIGNS, leaf_passing, part_with_path
-from farlayout.laid import Laid
+from farlayout.descents import leaf_over, part_with_path
+from farlayout.laid import behind, laid_of
 
 
 def begin_of(doc, width, path):
     """Returns the line, the column and the number of signs ahead at which a part begins."""
-    _, place = part_with_path(Laid(doc, width), path)
-    return place
+    return part_with_path(laid_of(doc, width), path).place
 
 
 def end_of(doc, width, path):
     """Returns the same for the place behind a part."""
-    laid = Laid(doc, width)
-    stand, place = part_with_path(laid, path)
-    return laid.behind(stand, place)
+    found = part_with_path(laid_of(doc, width), path)
+    return behind(found.row, found.situation, found.place, found.indentation)
 
 
 def path_over(doc, width, k):
     """Returns the path of the leaf that adds sign number k."""
-    laid = Laid(doc, width)
+    laid = laid_of(doc, width)
     check_number(k, 0, laid.end()[2] - 1, "k")
-    path, _, _ = leaf_passing(laid, SIGNS, k)
-    return path
+    return leaf_over(laid, k).path

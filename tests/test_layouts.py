@@ -48,9 +48,9 @@ class PlainTest(unittest.TestCase):
             rows = random_rows(source, source.choice([20, 60, 120]), most_text, source.choice([0, 0.1, 0.3]))
             self.assert_written(rows, source.sample(WIDTHS, 4))
 
-    def test_outcomes_that_are_forgotten_make_no_difference(self):
+    def test_totals_that_are_forgotten_make_no_difference(self):
         source = random.Random(93)
-        with mock.patch("farlayout.outcomes.MOST_OUTCOMES", 3):
+        with mock.patch("farlayout.totals.MOST_KNOWN", 3):
             for _ in range(100):
                 self.assert_written(random_rows(source), source.sample(WIDTHS, 4))
 
