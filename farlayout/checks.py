@@ -18,6 +18,11 @@ def check_width(width):
     check_number(width, 1, MOST_WIDTH, "width")
 
 
+def all_widths():
+    """Returns the list of all widths."""
+    return list(range(1, MOST_WIDTH + 1))
+
+
 def check_row_number(facts, at):
     """Raises InvalidBound if a value is not the number of a row."""
     check_number(at, 0, len(facts.rows) - 1, "at")

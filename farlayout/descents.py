@@ -3,6 +3,7 @@
 from farlayout.laid import entered, inner_indentation
 from farlayout.paths import rows_on_path
 from farlayout.steps import open_steps, steps_in
+from farlayout.totals import is_flat
 
 
 class Found:
@@ -26,6 +27,18 @@ def part_with_path(laid, path):
         place, indentation = entered(row, step, place, indentation)
         row, situation = step[5], step[6]
     return Found(path, row, situation, place, indentation)
+
+
+def flat_group_around(laid, path):
+    """Returns the path of the outermost flat group in which the part with a path is, itself left aside, or None."""
+    row, situation = laid.row, laid.situation
+    for many, index in enumerate(path):
+        if row.kind == "group" and is_flat(row, situation):
+            return path[:many]
+        steps = steps_in(row, situation)
+        step = steps[len(steps) - 1 - index]
+        row, situation = step[5], step[6]
+    return None
 
 
 def part_over(laid, first, end):

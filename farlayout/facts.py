@@ -130,7 +130,7 @@ class Facts:
     - `laids`: the document laid out, for each width that was asked.
     - `counts`: for what was counted, how many of it each row has below it.
     - `mosts`, `flats`: what is known of rows in situations.
-    - `flips`, `alike`: what is known of pairs of them.
+    - `flips`, `agreed`, `alike`: what is known of pairs of them.
     """
 
     def __init__(self, rows):
@@ -141,6 +141,7 @@ class Facts:
         self.mosts = {}
         self.flats = {}
         self.flips = {}
+        self.agreed = {}
         self.alike = {}
 
 

@@ -16,3 +16,15 @@ def rows_on_path(last, path):
         row = row.parts[index]
         rows.append(row)
     return rows
+
+
+def path_to_first(row, breaks):
+    """Returns the path from a row to the first line below it that breaks like this, or even more."""
+    path = []
+    while row.parts:
+        for index, part in enumerate(row.parts):
+            if part.breaks >= breaks:
+                break
+        path.append(index)
+        row = part
+    return tuple(path)

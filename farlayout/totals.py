@@ -82,10 +82,11 @@ def work_out(row, situation, notes):
 
 def forget_many(facts):
     """Forgets what was found out, if it is so much that it could fill the memory."""
-    many = len(facts.mosts) + len(facts.flats) + len(facts.flips) + len(facts.alike)
-    if many + sum([len(row.known) for row in facts.rows]) > MOST_KNOWN:
-        for kept in (facts.laids, facts.mosts, facts.flats, facts.flips, facts.alike):
-            kept.clear()
+    kept = [facts.mosts, facts.flats, facts.flips, facts.agreed, facts.alike]
+    if sum([len(known) for known in kept]) + sum([len(row.known) for row in facts.rows]) > MOST_KNOWN:
+        for known in kept:
+            known.clear()
+        facts.laids.clear()
         for row in facts.rows:
             if row.parts:
                 row.known.clear()

@@ -34,6 +34,19 @@ def tall():
     return Doc(doubled([("text", "a"), ("hard",), ("cat", [0, 1])], 100))
 
 
+def many():
+    """A document with 2 ** 100 groups."""
+    return Doc(doubled([("text", "a"), ("line", " "), ("cat", [0, 1]), ("group", 2)], 100))
+
+
+def odd():
+    """A document that has more lines if there is more room."""
+    return Doc([
+        ("text", "aaaaa"), ("line", " "), ("text", "b"), ("cat", [0, 1, 2]), ("group", 3), ("cat", [2, 1, 2, 1, 2]),
+        ("group", 5), ("cat", [4, 6]),
+    ])
+
+
 def tangled():
     """A document of 200 rows, most of which stand in many situations."""
     rows = [("text", "a"), ("text", "bc"), ("text", "defgh"), ("line", " "), ("group", 3), ("cat", [0, 4, 1, 4, 2])]
