@@ -2,7 +2,7 @@
 
 from farlayout.documents import Doc
 from farlayout.errors import InvalidBound
-from farlayout.wholes import is_integer
+from farlayout.wholes import is_between
 
 MOST_WIDTH = 40
 
@@ -30,5 +30,5 @@ def check_row_number(facts, at):
 
 def check_number(value, least, most, argument):
     """Raises InvalidBound with the name of the argument if a value is no integer from `least` to `most`."""
-    if not is_integer(value) or not least <= value <= most:
+    if not is_between(value, least, most):
         raise InvalidBound(argument)

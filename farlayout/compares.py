@@ -15,12 +15,12 @@ from farlayout.steps import steps_in
 class Side:
     """One of the two texts, from where it has been read on.
 
-    `waiting` has the parts that are still to be read, the next one at the end: tuples (row, situation, indentation).
+    `pending` has the parts that are still to be read, the next one at the end: tuples (row, situation, indentation).
     `rest` is what is left of a row without parts ahead of them: a string, and a number of blanks behind it.
     """
 
     def __init__(self, laid):
-        self.waiting = [(laid.row, laid.situation, laid.indentation)]
+        self.pending = [(laid.row, laid.situation, laid.indentation)]
         self.column = laid.column
         self.rest = ("", 0)
         # How many signs the next part has.
@@ -34,34 +34,34 @@ class Side:
         """Tells whether there are more signs; leaves out parts that have none."""
         if self.has_rest():
             return True
-        while self.waiting:
+        while self.pending:
             self.many = self._behind_next()[2]
             if self.many > 0:
                 return True
-            self.waiting.pop()
+            self.pending.pop()
         return False
 
     def is_leaf(self):
         """Tells whether the next part has no parts."""
-        return not self.waiting[-1][0].parts
+        return not self.pending[-1][0].parts
 
     def likeness(self):
         """Returns a key: parts of one document with the same key have the same signs."""
-        row, situation, indentation = self.waiting[-1]
+        row, situation, indentation = self.pending[-1]
         return (row.number, told(row, situation, self.column, indentation))
 
     def skip(self):
         """Leaves out the next part."""
         self.column = self._behind_next()[1]
-        self.waiting.pop()
+        self.pending.pop()
 
     def open_next(self):
         """Puts the parts of the next part in its place, or what it adds, if it has none."""
-        row, situation, indentation = self.waiting[-1]
+        row, situation, indentation = self.pending[-1]
         if row.parts:
-            self.waiting.pop()
+            self.pending.pop()
             inner = inner_indentation(row, self.column, indentation)
-            self.waiting.extend([(step[5], step[6], inner) for step in steps_in(row, situation)])
+            self.pending.extend([(step[5], step[6], inner) for step in steps_in(row, situation)])
         else:
             self.rest = ("\n", indentation) if is_broken(row, situation) else (row.string, 0)
             self.skip()
@@ -72,7 +72,7 @@ class Side:
         self.rest = (string[many:], blanks - max(many - len(string), 0))
 
     def _behind_next(self):
-        row, situation, indentation = self.waiting[-1]
+        row, situation, indentation = self.pending[-1]
         return behind(row, situation, (0, self.column, 0), indentation)
 
 
@@ -133,7 +133,7 @@ def _are_alike(one, other, signs, alike, compared):
     """Tells whether the next parts are known to have the same signs; if not, notes that they are compared."""
     likeness = one.likeness()
     other_likeness = other.likeness()
-    if one.waiting[-1][0] == other.waiting[-1][0] and likeness == other_likeness:
+    if one.pending[-1][0] == other.pending[-1][0] and likeness == other_likeness:
         return True
     pair = (likeness, other_likeness)
     # A pair that is met again has been passed before: a row is never below itself.
@@ -148,8 +148,8 @@ def _open_larger(one, other):
         open_one = not one.is_leaf() or other.is_leaf()
         open_other = not other.is_leaf() or one.is_leaf()
     else:
-        rank = (one.many, one.waiting[-1][0].number)
-        other_rank = (other.many, other.waiting[-1][0].number)
+        rank = (one.many, one.pending[-1][0].number)
+        other_rank = (other.many, other.pending[-1][0].number)
         open_one = rank >= other_rank
         open_other = other_rank >= rank
     if open_one:

@@ -1,7 +1,7 @@
 """Documents: lists of rows that refer to earlier rows."""
 
 from farlayout.errors import InvalidDoc
-from farlayout.wholes import is_integer
+from farlayout.wholes import is_between
 
 MOST_ROWS = 200
 MOST_PARTS = 8
@@ -25,12 +25,28 @@ class Doc:
 
     def row_list(self):
         """Returns a new list of the rows."""
-        return [_copied_row(row) for row in self._rows]
+        return [copied_row(row) for row in self._rows]
 
 
 def rows_in(doc):
     """Returns the very list of rows that a document keeps, which nobody may change."""
     return doc._rows
+
+
+def copied_row(row):
+    """Returns a row that a caller cannot change."""
+    # The list of parts is the only thing in a row that could be changed.
+    if row[0] == "cat":
+        return ("cat", list(row[1]))
+    return row
+
+
+def copied_doc(doc):
+    """Returns a new document that is equal to another one, with what was found out about it."""
+    copied = Doc(doc._rows)
+    copied.facts = doc.facts
+    copied.group_facts = doc.group_facts
+    return copied
 
 
 def parts_of(row):
@@ -68,8 +84,8 @@ def is_row(row, k):
     if kind == "hard":
         return True
     if kind == "nest":
-        return _is_below(row[1], MOST_NEST + 1) and _is_below(row[2], k)
-    return _is_below(row[1], k)
+        return is_between(row[1], 0, MOST_NEST) and is_between(row[2], 0, k - 1)
+    return is_between(row[1], 0, k - 1)
 
 
 def _checked_rows(rows):
@@ -79,15 +95,8 @@ def _checked_rows(rows):
     for k, row in enumerate(rows):
         if not is_row(row, k):
             raise InvalidDoc(k)
-        checked.append(_copied_row(row))
+        checked.append(copied_row(row))
     return checked
-
-
-def _copied_row(row):
-    # The list of parts is the only thing in a row that a caller could change.
-    if row[0] == "cat":
-        return ("cat", list(row[1]))
-    return row
 
 
 def _is_signs(value, most):
@@ -99,11 +108,7 @@ def _is_parts(value, k):
     if not isinstance(value, list) or len(value) > MOST_PARTS:
         return False
     for part in value:
-        # The same as `_is_below`; but documents have many parts, and a call for each of them takes its time.
+        # The same as `is_between`; but documents have many parts, and a call for each of them takes its time.
         if not isinstance(part, int) or isinstance(part, bool) or not 0 <= part < k:
             return False
     return True
-
-
-def _is_below(value, end):
-    return is_integer(value) and 0 <= value < end

@@ -1,7 +1,7 @@
 """What the rows of a document are by themselves, whatever the width and the place at which they stand."""
 
 from farlayout.checks import MOST_WIDTH, check_doc
-from farlayout.documents import rows_in
+from farlayout.documents import copied_row, parts_of, rows_in
 
 # How a row may break: it has no lines, it has lines, it has a hard line.
 BARE = 0
@@ -131,11 +131,13 @@ class Facts:
     - `counts`: for what was counted, how many of it each row has below it.
     - `mosts`, `flats`: what is known of rows in situations.
     - `flips`, `agreed`, `alike`: what is known of pairs of them.
+    - `latest`: the last change that was asked for, as (number, row, facts of the changed document), or None.
     """
 
-    def __init__(self, rows):
+    def __init__(self, rows, counts_groups):
         self.rows = rows
         self.last = rows[-1]
+        self.counts_groups = counts_groups
         self.laids = {}
         self.counts = {}
         self.mosts = {}
@@ -143,13 +145,14 @@ class Facts:
         self.flips = {}
         self.agreed = {}
         self.alike = {}
+        self.latest = None
 
 
 def facts_of(doc):
     """Returns the facts of a document; raises InvalidBound if it is none."""
     check_doc(doc)
     if doc.facts is None:
-        doc.facts = Facts(_made_rows(rows_in(doc), False))
+        doc.facts = _new_facts(rows_in(doc), False)
     return doc.facts
 
 
@@ -157,11 +160,31 @@ def group_facts_of(doc):
     """Returns the same for questions about the groups, for which also groups without lines matter."""
     check_doc(doc)
     if doc.group_facts is None:
-        doc.group_facts = Facts(_made_rows(rows_in(doc), True))
+        doc.group_facts = _new_facts(rows_in(doc), True)
     return doc.group_facts
 
 
-def _made_rows(rows, counts_groups):
+def changed_facts(doc, facts, at, row):
+    """Returns the facts of a document in which row number `at` is another one, from those of the document.
+
+    All rows that are not `at` and have no such row below them are the same objects in both.
+    """
+    if rows_in(doc)[at] == row:
+        return facts
+    if facts.latest is None or facts.latest[:2] != (at, row):
+        rows = [*rows_in(doc)[:at], row, *rows_in(doc)[at + 1:]]
+        made = []
+        for number, kept in enumerate(facts.rows):
+            parts = [made[part] for part in parts_of(rows[number])]
+            if number != at and parts == kept.parts:
+                made.append(kept)
+            else:
+                made.append(Row(number, rows[number], parts, facts.counts_groups))
+        facts.latest = (at, copied_row(row), Facts(made, facts.counts_groups))
+    return facts.latest[2]
+
+
+def _new_facts(rows, counts_groups):
     made = []
     for number, row in enumerate(rows):
         if row[0] == "cat":
@@ -171,4 +194,4 @@ def _made_rows(rows, counts_groups):
         else:
             parts = []
         made.append(Row(number, row, parts, counts_groups))
-    return made
+    return Facts(made, counts_groups)

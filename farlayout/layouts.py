@@ -23,7 +23,8 @@ def longest(doc, width):
 
 def longest_in(facts, laid):
     """Returns the same for a document that is laid out."""
-    return max(*mosts_in(facts.mosts, laid.row, laid.situation), laid.end()[1])
+    first, second = mosts_in(facts.mosts, laid.row, laid.situation)
+    return max(first, second, laid.end()[1])
 
 
 def last_column(doc, width):

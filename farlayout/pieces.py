@@ -18,22 +18,18 @@ class Texts:
 
     def text_of(self, row, situation, column, indentation):
         """Returns the text of a part."""
-        likeness = (row.number, told(row, situation, column, indentation))
-        if likeness not in self.known:
-            if row.parts:
-                self.known[likeness] = self._joined(row, situation, column, indentation)
-            else:
-                self.known[likeness] = leaf_text(row, situation, indentation)
-        return self.known[likeness]
-
-    def _joined(self, row, situation, column, indentation):
+        if not row.parts:
+            return leaf_text(row, situation, indentation)
         if total_in(row, situation)[0] == 0:
             return ""
-        texts = []
-        for step in steps_in(row, situation)[::-1]:
-            place, inner = entered(row, step, (0, column, 0), indentation)
-            texts.append(self.text_of(step[5], step[6], place[1], inner))
-        return "".join(texts)
+        likeness = (row.number, told(row, situation, column, indentation))
+        if likeness not in self.known:
+            texts = []
+            for step in steps_in(row, situation)[::-1]:
+                place, inner = entered(row, step, (0, column, 0), indentation)
+                texts.append(self.text_of(step[5], step[6], place[1], inner))
+            self.known[likeness] = "".join(texts)
+        return self.known[likeness]
 
 
 def told(row, situation, column, indentation):

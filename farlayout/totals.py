@@ -87,6 +87,7 @@ def forget_many(facts):
         for known in kept:
             known.clear()
         facts.laids.clear()
+        facts.latest = None
         for row in facts.rows:
             if row.parts:
                 row.known.clear()

@@ -42,10 +42,14 @@ def signs_ahead_of_line(nodes):
 
 
 class Plain:
-    """The text of rows for a width, and where all that is in it stands."""
+    """The text of rows for a width, and where all that is in it stands.
 
-    def __init__(self, rows, width):
+    It may begin at another column, with an indentation, and with signs ahead behind it.
+    """
+
+    def __init__(self, rows, width, column=0, indentation=0, ahead=0):
         self.width = width
+        self.ahead = ahead
         self.tree = tree_of(rows)
         self.nodes = self.tree.walk()
         self.text = ""
@@ -56,8 +60,8 @@ class Plain:
         self.ends = {}
         self.flats = {}      # for each path of a group whether it is flat
         self.line = 0
-        self.column = 0
-        self._lay(self.tree, 0, False)
+        self.column = column
+        self._lay(self.tree, indentation, False)
 
     def lines(self):
         return self.text.split("\n")
@@ -65,7 +69,8 @@ class Plain:
     def ahead_of(self, node):
         at = self.nodes.index(node)
         behind = self.nodes[at + len(node.walk()):]
-        return signs_ahead_of_line(behind)[0]
+        signs, line = signs_ahead_of_line(behind)
+        return signs if line is not None else signs + self.ahead
 
     def _place(self):
         return (self.line, self.column, len(self.text))
@@ -108,6 +113,16 @@ class Plain:
         self.ends[node.path] = self._place()
 
 
+def plain_difference(first, second):
+    """What `first_difference` tells of two texts."""
+    if first == second:
+        return None
+    sign = 0
+    while sign < min(len(first), len(second)) and first[sign] == second[sign]:
+        sign += 1
+    return (sign, first[:sign].count("\n"), sign - first.rfind("\n", 0, sign) - 1)
+
+
 def random_rows(source, most_nodes=60, most_text=6, hard=0.1):
     """Returns the rows of a small document, of all kinds; `source` is a random.Random."""
     rows = [_random_leaf(source, most_text, hard) for _ in range(source.randint(1, 6))]
@@ -125,6 +140,13 @@ def random_rows(source, most_nodes=60, most_text=6, hard=0.1):
     if sum([totals[part] for part in fresh[-8:]]) <= 2 * most_nodes:
         rows.append(("cat", fresh[-8:]))
     return rows
+
+
+def random_row(source, at):
+    """Returns a row that can stand at a number."""
+    if at == 0 or source.random() < 0.5:
+        return _random_leaf(source, 6, 0.2)
+    return _random_inner(source, range(at), [at - 1])
 
 
 def parts_of(row):

@@ -7,21 +7,11 @@ from farlayout.layouts import sign_total, written
 from farlayout.lines import spot
 from farlayout.pairs import compared, first_difference, least_parting, like_signs, parting_widths
 from farlayout.signs import window
-from plain import Plain, random_rows
+from plain import Plain, plain_difference, random_rows
 from samples import OLD, SMALL, doubled, old, tall, tangled
 
 WIDTHS = list(range(1, 41))
 BOTH = [("text", "ab"), ("line", " "), ("cat", [0, 1, 0]), ("group", 2), ("nest", 2, 2), ("group", 4)]
-
-
-def plain_difference(first, second):
-    """What `first_difference` tells of two texts."""
-    if first == second:
-        return None
-    sign = 0
-    while sign < min(len(first), len(second)) and first[sign] == second[sign]:
-        sign += 1
-    return (sign, first[:sign].count("\n"), sign - first.rfind("\n", 0, sign) - 1)
 
 
 def moved(row, by):
