@@ -73,10 +73,10 @@ def is_row(row, k):
     if not isinstance(row, tuple) or len(row) == 0 or not isinstance(row[0], str):
         return False
     kind = row[0]
+    if kind == "cat":
+        return len(row) == 2 and _is_parts(row[1], k)
     if ROW_LENGTHS.get(kind) != len(row):
         return False
-    if kind == "cat":
-        return _is_parts(row[1], k)
     if kind == "text":
         return _is_signs(row[1], MOST_TEXT_SIGNS)
     if kind == "line":

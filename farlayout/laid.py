@@ -43,7 +43,10 @@ def group_laid_of(doc, width):
 def laid_in(facts, width):
     """Returns the document that has these facts, laid out for a width."""
     if width not in facts.laids:
-        facts.laids[width] = laid_row(facts, facts.last, width)
+        # There cannot be too much to remember if nothing has been asked yet.
+        if facts.laids:
+            forget_many(facts)
+        facts.laids[width] = Laid(facts.last, width, 0, 0, 0)
     return facts.laids[width]
 
 

@@ -53,6 +53,7 @@ def work_out(row, situation, notes):
     signs = feeds = turned = base = offset = 0
     more = row.more
     inner = row.inner
+    is_bent = more > 0 or inner == 0
     rooms = (first, second)
     second = rooms[inner] - more
     for part, is_still, lead, is_ended in row.steps:
@@ -68,7 +69,7 @@ def work_out(row, situation, notes):
         many, breaks, turns, behind, width = part.known.get(within) or work_out(part, within, None)
         signs += many
         feeds += breaks
-        if turns or more or inner == 0:
+        if turns or is_bent:
             signs += turns * offset + (breaks - turns) * more
             turned += (turns if base == 0 else 0) + (breaks - turns if inner == 0 else 0)
         if behind:
