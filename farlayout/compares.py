@@ -61,7 +61,7 @@ class Side:
         if row.parts:
             self.pending.pop()
             inner = inner_indentation(row, self.column, indentation)
-            self.pending.extend([(step[5], step[6], inner) for step in steps_in(row, situation)])
+            self.pending.extend([(part, within, inner) for _, part, within, _ in steps_in(row, situation)])
         else:
             self.rest = ("\n", indentation) if is_broken(row, situation) else (row.string, 0)
             self.skip()

@@ -23,9 +23,9 @@ def part_with_path(laid, path):
     row, situation, place, indentation = laid.row, laid.situation, laid.start(), laid.indentation
     for index in path:
         steps = steps_in(row, situation)
-        step = steps[len(steps) - 1 - index]
-        place, indentation = entered(row, step, place, indentation)
-        row, situation = step[5], step[6]
+        total, part, within, _ = steps[len(steps) - 1 - index]
+        place, indentation = entered(row, total, place, indentation)
+        row, situation = part, within
     return Found(path, row, situation, place, indentation)
 
 
@@ -36,8 +36,7 @@ def flat_group_around(laid, path):
         if row.kind == "group" and is_flat(row, situation):
             return path[:many]
         steps = steps_in(row, situation)
-        step = steps[len(steps) - 1 - index]
-        row, situation = step[5], step[6]
+        _, row, situation, _ = steps[len(steps) - 1 - index]
     return None
 
 
@@ -48,7 +47,7 @@ def part_over(laid, first, end):
     path = []
     while row.parts:
         stop = end
-        for many, feeds, turned, base, offset, part, within, index in steps_in(row, situation):
+        for (many, feeds, turned, base, offset), part, within, index in steps_in(row, situation):
             if feeds and (column or indentation):
                 many += turned * column + (feeds - turned) * indentation
             if many <= first:
@@ -81,7 +80,7 @@ def feed_at(laid, number):
         steps = row.opened.get(situation)
         if steps is None:
             steps = open_steps(row, situation)
-        for many, feeds, turned, base, offset, part, within, _ in steps:
+        for (many, feeds, turned, base, offset), part, within, _ in steps:
             if feeds <= number:
                 break
         number -= feeds

@@ -91,8 +91,10 @@ def path_of_first(known, pair):
 
 def _parts_of(pair):
     row, situation, other_row, other_situation = pair
-    steps = zip(steps_in(row, situation)[::-1], steps_in(other_row, other_situation)[::-1])
-    return [(step[5], step[6], other[5], other[6]) for step, other in steps]
+    steps = steps_in(row, situation)[::-1]
+    others = steps_in(other_row, other_situation)[::-1]
+    return [(part, within, other, other_within)
+            for (_, part, within, _), (_, other, other_within, _) in zip(steps, others)]
 
 
 def _is_flip(pair):

@@ -65,10 +65,13 @@ def behind(row, situation, place, indentation):
     return (line + feeds, (indentation if base else column) + offset, signs + many)
 
 
-def entered(row, step, place, indentation):
-    """Returns the place at which a part begins, and its indentation, for a row that begins at a place."""
+def entered(row, total, place, indentation):
+    """Returns the place at which a part begins, and its indentation.
+
+    The row begins at a place and has an indentation; `total` is that of the parts ahead of this one.
+    """
     line, column, signs = place
-    many, feeds, turned, base, offset = step[:5]
+    many, feeds, turned, base, offset = total
     if feeds:
         many += turned * column + (feeds - turned) * indentation
     begin = (line + feeds, (indentation if base else column) + offset, signs + many)

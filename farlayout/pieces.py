@@ -25,9 +25,9 @@ class Texts:
         likeness = (row.number, told(row, situation, column, indentation))
         if likeness not in self.known:
             texts = []
-            for step in steps_in(row, situation)[::-1]:
-                place, inner = entered(row, step, (0, column, 0), indentation)
-                texts.append(self.text_of(step[5], step[6], place[1], inner))
+            for total, part, within, _ in steps_in(row, situation)[::-1]:
+                place, inner = entered(row, total, (0, column, 0), indentation)
+                texts.append(self.text_of(part, within, place[1], inner))
             self.known[likeness] = "".join(texts)
         return self.known[likeness]
 
@@ -78,10 +78,10 @@ def signs_between(laid, first, end):
 def _steps_between(row, situation, place, indentation, first, end):
     """Returns the parts in which these signs are, the last one first."""
     found = []
-    for step in steps_in(row, situation):
-        begin, inner = entered(row, step, place, indentation)
+    for total, part, within, _ in steps_in(row, situation):
+        begin, inner = entered(row, total, place, indentation)
         if begin[2] < end:
-            found.append((step[5], step[6], begin, inner))
+            found.append((part, within, begin, inner))
         if begin[2] <= first:
             break
     return found

@@ -4,12 +4,12 @@ from farlayout.totals import is_flat, total_in, work_out
 
 
 def notes_in(row, situation):
-    """Returns for each part a tuple: the total (see `totals.py`) of the parts ahead of it, itself and its situation."""
+    """Returns for each part a tuple: the total of the parts ahead of it, itself, and its situation."""
     notes = []
     if is_flat(row, situation):
         signs = 0
         for part in row.parts:
-            notes.append((signs, 0, 0, 0, signs, part, None))
+            notes.append(((signs, 0, 0, 0, signs), part, None))
             signs += part.wide
     elif row.parts:
         work_out(row, situation, notes)
@@ -17,10 +17,10 @@ def notes_in(row, situation):
 
 
 def open_steps(row, situation):
-    """Returns for each part, the last one first, a tuple of its note and its index, and keeps them."""
+    """Returns the same with the index of the part behind it, for the last part first, and keeps it."""
     steps = []
-    for index, note in enumerate(notes_in(row, situation)):
-        steps.append((*note, index))
+    for index, (total, part, within) in enumerate(notes_in(row, situation)):
+        steps.append((total, part, within, index))
     steps.reverse()
     row.opened[situation] = steps
     return steps
@@ -47,7 +47,7 @@ def mosts_in(known, row, situation):
     key = (row.number, situation)
     if key not in known:
         mosts = [-1, -1]
-        for _, _, _, base, offset, part, within in notes_in(row, situation):
+        for (_, _, _, base, offset), part, within in notes_in(row, situation):
             first, second = mosts_in(known, part, within)
             if first >= 0:
                 mosts[base] = max(mosts[base], first + offset)

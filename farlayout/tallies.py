@@ -3,7 +3,7 @@
 from farlayout.facts import group_facts_of
 from farlayout.laid import group_laid_of
 from farlayout.paths import rows_on_path
-from farlayout.steps import notes_in, steps_in
+from farlayout.steps import notes_in
 from farlayout.totals import is_flat
 
 
@@ -25,13 +25,13 @@ class Tally:
         path = []
         while k > 0 or not self._is_one(row, situation):
             k -= int(self._is_one(row, situation))
-            for index, note in enumerate(notes_in(row, situation)):
-                many = self._many_in(note[5], note[6])
+            for index, (_, part, within) in enumerate(notes_in(row, situation)):
+                many = self._many_in(part, within)
                 if k < many:
                     break
                 k -= many
             path.append(index)
-            row, situation = note[5], note[6]
+            row, situation = part, within
         return tuple(path)
 
     def total_before(self, path):
@@ -40,10 +40,10 @@ class Tally:
         row, situation = self.laid.row, self.laid.situation
         total = 0
         for index in path:
-            steps = steps_in(row, situation)[::-1]
+            notes = notes_in(row, situation)
             total += int(self._is_one(row, situation))
-            total += sum([self._many_in(step[5], step[6]) for step in steps[:index]])
-            row, situation = steps[index][5], steps[index][6]
+            total += sum([self._many_in(part, within) for _, part, within in notes[:index]])
+            _, row, situation = notes[index]
         return total
 
     def _is_one(self, row, situation):
@@ -61,7 +61,7 @@ def _flats_in(known, row, situation):
     key = (row.number, situation)
     if key not in known:
         total = 0
-        for note in notes_in(row, situation):
-            total += _flats_in(known, note[5], note[6])
+        for _, part, within in notes_in(row, situation):
+            total += _flats_in(known, part, within)
         known[key] = total
     return known[key]

@@ -59,13 +59,13 @@ def work_out(row, situation, notes):
     for part, is_still, lead, is_ended in row.steps:
         if is_still:
             if notes is not None:
-                notes.append((signs, feeds, turned, base, offset, part, None))
+                notes.append(((signs, feeds, turned, base, offset), part, None))
             signs += part.wide
             offset += part.wide
             continue
         within = _situation_of(part, rooms[base] - offset, second, lead if is_ended else lead + ahead)
         if notes is not None:
-            notes.append((signs, feeds, turned, base, offset, part, within))
+            notes.append(((signs, feeds, turned, base, offset), part, within))
         many, breaks, turns, behind, width = part.known.get(within) or work_out(part, within, None)
         signs += many
         feeds += breaks
