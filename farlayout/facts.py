@@ -132,9 +132,10 @@ class Facts:
     - `mosts`, `flats`: what is known of rows in situations.
     - `flips`, `agreed`, `alike`: what is known of pairs of them.
     - `latest`: the last change that was asked for, as (number, row, facts of the changed document), or None.
+    - `is_new`: whether nothing can have been found out about its rows.
     """
 
-    def __init__(self, rows, counts_groups):
+    def __init__(self, rows, counts_groups, is_new):
         self.rows = rows
         self.last = rows[-1]
         self.counts_groups = counts_groups
@@ -146,6 +147,7 @@ class Facts:
         self.agreed = {}
         self.alike = {}
         self.latest = None
+        self.is_new = is_new
 
 
 def facts_of(doc):
@@ -180,13 +182,14 @@ def changed_facts(doc, facts, at, row):
                 made.append(kept)
             else:
                 made.append(Row(number, rows[number], parts, facts.counts_groups))
-        facts.latest = (at, copied_row(row), Facts(made, facts.counts_groups))
+        facts.latest = (at, copied_row(row), Facts(made, facts.counts_groups, False))
     return facts.latest[2]
 
 
 def _new_facts(rows, counts_groups):
     made = []
     for number, row in enumerate(rows):
+        # What `parts_of` tells, without a new list for each row.
         if row[0] == "cat":
             parts = [made[part] for part in row[1]]
         elif row[0] in ("nest", "align", "group"):
@@ -194,4 +197,4 @@ def _new_facts(rows, counts_groups):
         else:
             parts = []
         made.append(Row(number, row, parts, counts_groups))
-    return Facts(made, counts_groups)
+    return Facts(made, counts_groups, True)

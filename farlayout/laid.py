@@ -43,9 +43,9 @@ def group_laid_of(doc, width):
 def laid_in(facts, width):
     """Returns the document that has these facts, laid out for a width."""
     if width not in facts.laids:
-        # There cannot be too much to remember if nothing has been asked yet.
-        if facts.laids:
+        if not facts.is_new:
             forget_many(facts)
+        facts.is_new = False
         facts.laids[width] = Laid(facts.last, width, 0, 0, 0)
     return facts.laids[width]
 

@@ -83,13 +83,17 @@ def work_out(row, situation, notes):
 
 def forget_many(facts):
     """Forgets what was found out, if it is so much that it could fill the memory."""
-    kept = [facts.mosts, facts.flats, facts.flips, facts.agreed, facts.alike]
-    if sum([len(known) for known in kept]) + sum([len(row.known) for row in facts.rows]) > MOST_KNOWN:
-        for known in kept:
-            known.clear()
+    many = len(facts.mosts) + len(facts.flats) + len(facts.flips) + len(facts.agreed) + len(facts.alike)
+    if many + sum([len(row.known) for row in facts.rows]) > MOST_KNOWN:
         facts.laids.clear()
+        facts.mosts.clear()
+        facts.flats.clear()
+        facts.flips.clear()
+        facts.agreed.clear()
+        facts.alike.clear()
         facts.latest = None
         for row in facts.rows:
+            # Rows without parts are known from the beginning.
             if row.parts:
                 row.known.clear()
                 row.opened.clear()

@@ -8,7 +8,7 @@ from farlayout.joints import NOWHERE, agree, flips_of, pair_of, path_of_first, p
 from farlayout.laid import laid_in
 from farlayout.layouts import longest_in
 from farlayout.paths import rows_on_path
-from farlayout.totals import is_flat
+from farlayout.totals import forget_many, is_flat
 from farlayout.wholes import is_integer
 
 
@@ -97,4 +97,5 @@ def _checked_pair(facts, one, other):
 
 
 def _pair(facts, one, other):
+    forget_many(facts)
     return pair_of(laid_in(facts, one), laid_in(facts, other))
